@@ -1,0 +1,1 @@
+"""Foreknown: what is known ahead is done ahead."""
