@@ -36,16 +36,19 @@ def kind_of(value):
     return "number"
 
 
-# Parts are walked with a list of what is still to come, not by functions that
-# call themselves, so that no depth of nesting is too deep.
+# The thing itself and all that stands within it, each as often as it stands.
+# No function calls itself here, so that no depth of nesting is too deep.
+def all_within(thing):
+    found = [thing]
+    place = 0
+    while place < len(found):
+        found.extend(things_within(found[place]))
+        place += 1
+    return found
+
+
 def parts(value):
-    total = 0
-    pending = [value]
-    while pending:
-        piece = pending.pop()
-        total += 1
-        pending.extend(things_within(piece))
-    return total
+    return len(all_within(value))
 
 
 # Whether the thing may stand as a part of a value, whatever stands within it.
@@ -63,15 +66,8 @@ def may_stand(thing):
 
 
 def is_value(thing):
-    total = 0
-    pending = [thing]
-    while pending:
-        piece = pending.pop()
-        total += 1
-        if total > MOST_PARTS or not may_stand(piece):
-            return False
-        pending.extend(things_within(piece))
-    return True
+    found = all_within(thing)
+    return len(found) <= MOST_PARTS and all([may_stand(part) for part in found])
 
 
 # What a part adds to the weight beside the weights of what stands within it.
@@ -85,10 +81,4 @@ def own_weight(part):
 
 
 def weight(value):
-    total = 0
-    pending = [value]
-    while pending:
-        piece = pending.pop()
-        total += own_weight(piece)
-        pending.extend(things_within(piece))
-    return total
+    return sum([own_weight(part) for part in all_within(value)])

