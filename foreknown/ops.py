@@ -140,6 +140,12 @@ def check_kinds(kinds, values):
             raise Fault("kind")
 
 
+# What an if asks of its atom's value: whether it goes on in its first block.
+def chooses_first(value):
+    check_kinds(("number",), (value,))
+    return value != 0
+
+
 class Op:
     def __init__(self, word):
         self.word = word

@@ -69,6 +69,14 @@ def function_by(program, name):
     return None
 
 
+# For those who ask for many functions of one program.
+def functions_by_name(program):
+    functions = {}
+    for function in program:
+        functions[function[0]] = function
+    return functions
+
+
 def values_of(program):
     values = []
     for function in program:

@@ -1,7 +1,11 @@
-"""What several tests need: comparing kind by kind, and programs in short."""
+"""What several tests need: comparing kind by kind, programs in short, and programs by chance."""
 
 import copy
+import random
 import unittest
+
+from foreknown.reading import read
+from foreknown.shapes import function_by, lines_of, steps_of
 
 WORDS = ("add", "sub", "mul", "div", "rem", "less", "same", "down", "kind", "front",
          "head", "rest", "many", "item", "put", "field", "set")
@@ -87,6 +91,11 @@ def block(*lines):
 def function(name, params, *lines):
     """The params stand in one text, with blanks between."""
     return (name, tuple(params.split()), block(*lines))
+
+
+def program_of(text):
+    """The program of a text that may stand indented."""
+    return read("\n".join(line.strip() for line in text.strip().split("\n")))
 
 
 def many_functions(count):
@@ -255,3 +264,185 @@ class Case(unittest.TestCase):
         self.assert_same(again[::-1], kept)
         self.assert_same(told, kept)
         self.assertEqual(repr(told), repr(kept))
+
+
+# What each op takes and what it tells, mostly: n a number, w a word, r a row (of
+# numbers), c a record (of numbers), x anything.
+OP_KINDS = (
+    ("add", "nn", "n"), ("sub", "nn", "n"), ("mul", "nn", "n"), ("div", "nn", "n"), ("rem", "nn", "n"),
+    ("less", "nn", "n"), ("same", "xx", "n"), ("down", "n", "n"), ("kind", "x", "w"), ("front", "xr", "r"),
+    ("head", "r", "n"), ("rest", "r", "r"), ("many", "r", "n"), ("item", "rn", "n"), ("put", "rnx", "r"),
+    ("field", "cw", "n"), ("set", "cwx", "c"),
+)
+
+
+class Chance:
+    """Sound programs and inputs by chance: of one seed the same ones each time.
+
+    Names are mostly put where their kind is asked for, so that runs go on for
+    some lines; calls and goes mostly aim at later functions, so that they end.
+    """
+
+    def __init__(self, seed):
+        self.random = random.Random(seed)
+
+    def likely(self, hundredths):
+        return self.random.randrange(100) < hundredths
+
+    def value_of(self, kind):
+        pick = self.random.choice
+        if kind == "x" or self.likely(3):
+            kind = pick("nnwrc")
+        if kind == "n":
+            return pick((-7, -1, 0, 0, 1, 1, 2, 2, 3, 3, 5, 10 ** 18 - 1))
+        if kind == "w":
+            return pick(("a", "a", "a", "b"))
+        if kind == "r":
+            return tuple(self.value_of("n") for _ in range(pick((0, 1, 2, 3, 3, 4))))
+        words = self.random.sample(("a", "b", "ab"), pick((1, 2, 3, 3)))
+        return {word: self.value_of("n") for word in words}
+
+    def atom_of(self, kind, bound):
+        fitting = [name for name, of_kind in bound if kind in ("x", of_kind)]
+        if self.likely(3):
+            fitting = [name for name, _ in bound]
+        if fitting and self.likely(80):
+            return of(self.random.choice(fitting))
+        return value(self.value_of(kind))
+
+    def program(self, most_functions=5, most_params=4):
+        count = self.random.randrange(1, most_functions + 1)
+        self.kinds = []
+        for _ in range(count):
+            params = [self.random.choice("nnnrrcw") for _ in range(self.random.randrange(most_params + 1))]
+            self.kinds.append(params)
+        return tuple(self.function(place) for place in range(count))
+
+    def function(self, place):
+        params = self.kinds[place]
+        names = tuple("abcdef"[:len(params)])
+        self.lines = 0
+        return (f"f{place}", names, self.block(place, list(zip(names, params)), 0))
+
+    def block(self, place, bound, depth):
+        bound = list(bound)
+        steps = []
+        for _ in range(self.random.randrange(5)):
+            self.lines += 1
+            name = f"s{self.lines}"
+            if self.may_aim(place) and self.likely(20):
+                steps.append(("call", name) + self.aim(place, bound))
+                bound.append((name, "n"))
+            else:
+                op, takes, tells = self.op()
+                atoms = [self.atom_of(kind, bound) for kind in takes]
+                if op in ("item", "put") and self.likely(80):
+                    atoms[1] = value(0)
+                steps.append(let(name, op, *atoms))
+                bound.append((name, tells))
+        return (tuple(steps), self.end(place, bound, depth))
+
+    def op(self):
+        """Those that often fault come less often."""
+        op = self.random.choice(OP_KINDS)
+        if op[0] in ("div", "rem", "down", "head", "rest", "item", "put", "field") and self.likely(50):
+            op = self.random.choice(OP_KINDS)
+        return op
+
+    def may_aim(self, place):
+        """The last function has no later one to aim at, so it seldom does."""
+        return place + 1 < len(self.kinds) or self.likely(25)
+
+    def aim(self, place, bound):
+        aimed = self.random.randrange(len(self.kinds))
+        if aimed <= place and not self.likely(15):
+            aimed = min(place + 1, len(self.kinds) - 1)
+        return (f"f{aimed}", tuple(self.atom_of(kind, bound) for kind in self.kinds[aimed]))
+
+    def end(self, place, bound, depth):
+        if depth < 3 and self.likely(55 - 15 * depth):
+            atom = self.atom_of("n", bound)
+            return when(atom, self.block(place, bound, depth + 1), self.block(place, bound, depth + 1))
+        if self.may_aim(place) and self.likely(45):
+            return ("go",) + self.aim(place, bound)
+        if self.likely(8):
+            return fail(self.random.choice(("stop", "kind", "wide")))
+        return give(self.atom_of(self.random.choice("nnrc"), bound))
+
+    def inputs(self):
+        """Inputs for the main function of the program that was told last."""
+        return tuple(self.value_of(kind) for kind in self.kinds[0])
+
+    def bits(self, function):
+        """Bits of that function's params."""
+        return self.random.randrange(1 << len(function[1]))
+
+
+def by_chance(count, first_seed=0):
+    """So many times a Chance with a sound program of it."""
+    for seed in range(first_seed, first_seed + count):
+        chance = Chance(seed)
+        yield chance, chance.program()
+
+
+def is_named(atom, names):
+    return atom[0] == "of" and atom[1] in names
+
+
+def needed(atoms, later):
+    return sum(1 << k for k, atom in enumerate(atoms) if is_named(atom, later))
+
+
+def later_in(program, form):
+    """The names that are later in the form, params and steps."""
+    params = function_by(program, form[0])[1]
+    return {param for k, param in enumerate(params) if form[1] >> k & 1} | set(form[2])
+
+
+def parting_from(program, bits, later_let, more_bits):
+    """A parting that is let by, of the forms that are met from the main function on.
+
+    What must be later is; a let is, too, where later_let(FUNCTION, NAME) says so,
+    and a goal has more_bits(FUNCTION AIMED AT) beside its need.
+    """
+    met = [(program[0][0], bits)]
+    forms = []
+    for name, of_bits in met:
+        params, body = function_by(program, name)[1:]
+        later = {param for k, param in enumerate(params) if of_bits >> k & 1}
+        steps, goals = [], []
+        for line in lines_of(body):
+            if line[0] == "call" or line[0] == "let" and (needed(line[3], later) or later_let(name, line[1])):
+                steps.append(line[1])
+            if line[0] in ("call", "go"):
+                aimed, atoms = line[-2:]
+                goal = needed(atoms, later) | more_bits(function_by(program, aimed))
+                goals.append(goal)
+                if (aimed, goal) not in met:
+                    met.append((aimed, goal))
+            later.update(steps)
+        forms.append((name, of_bits, tuple(steps), tuple(goals)))
+    return tuple(forms)
+
+
+def parting_held(program, bits, held):
+    """The words of [16] once more."""
+    def more_bits(aimed):
+        return sum(1 << k for k, param in enumerate(aimed[1]) if (aimed[0], param) in held)
+    return parting_from(program, bits, lambda name, step: (name, step) in held, more_bits)
+
+
+def loose_parting(chance, program, bits, hundredths=25):
+    """A parting that is let by, with more later than need be, by chance."""
+    def more_bits(aimed):
+        return sum(1 << k for k in range(len(aimed[1])) if chance.likely(hundredths))
+    return parting_from(program, bits, lambda name, step: chance.likely(hundredths), more_bits)
+
+
+def names_of(function):
+    return function[1] + steps_of(function[2])
+
+
+def pairs_of(program):
+    """All pairs of a function's name and the name of a param or a step of it."""
+    return tuple((one[0], name) for one in program for name in names_of(one))
