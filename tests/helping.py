@@ -51,6 +51,25 @@ def letters(count):
     return [alphabet[k // 26] + alphabet[k % 26] for k in range(count)]
 
 
+def pieces(whole):
+    """All pieces of a value, unlike ones only, straight from [4]."""
+    found = []
+    pending = [whole]
+    while pending:
+        piece = pending.pop()
+        if piece in found:
+            continue
+        found.append(piece)
+        if isinstance(piece, int) and piece >= 1:
+            pending.append(piece - 1)
+        elif isinstance(piece, tuple) and piece:
+            pending.append(piece[1:])
+            pending.extend(piece)
+        elif isinstance(piece, dict):
+            pending.extend(piece.values())
+    return found
+
+
 def value(thing):
     return ("is", thing)
 
@@ -224,6 +243,103 @@ fun if if
 give if
 fun call
 fail else"""
+
+# Each kind of line, ifs, goals back at the main function, and a function that
+# none aims at.
+MIXED = program_of("""
+    fun main a b
+    x = add a 1
+    y = call f x b
+    if y
+    z = add x y
+    go main z b
+    else
+    w = mul x x
+    v = call g w
+    go f v w
+    end
+    fun idle a
+    go idle a
+    fun f p q
+    r = add p q
+    give r
+    fun g n
+    if n
+    m = down n
+    go g m
+    else
+    give n
+    end""")
+
+# x to the power of n: n falls.
+POWER = program_of("""
+    fun main n x
+    if n
+    m = down n
+    so = call main m x
+    all = mul so x
+    give all
+    else
+    give 1
+    end""")
+
+# A small machine: its code is a row of rows (WORD, NUMBER), it works on a number.
+MACHINE = program_of("""
+    fun main code n
+    many = many code
+    if many
+    one = head code
+    rest = rest code
+    word = head one
+    tail = rest one
+    k = head tail
+    up = same word 'add
+    if up
+    so = add n k
+    go main rest so
+    else
+    up2 = same word 'loop
+    if up2
+    go loop one rest k n
+    else
+    so2 = mul n k
+    go main rest so2
+    end
+    end
+    else
+    give n
+    end
+    fun loop one rest body n
+    if n
+    m = call main body n
+    go loop one rest body m
+    else
+    go main rest n
+    end""")
+
+# In its loop n falls, so is wild.
+SUMS = program_of("""
+    fun main n x
+    go loop n x 0
+    fun loop n x so
+    if n
+    m = down n
+    more = add so n
+    odd = rem n 2
+    if odd
+    y = add x so
+    go loop m y more
+    else
+    z = call twice x
+    go loop m z more
+    end
+    else
+    all = add x so
+    give all
+    end
+    fun twice x
+    y = add x x
+    give y""")
 
 
 def outcome(asked, arguments):
@@ -446,3 +562,16 @@ def names_of(function):
 def pairs_of(program):
     """All pairs of a function's name and the name of a param or a step of it."""
     return tuple((one[0], name) for one in program for name in names_of(one))
+
+
+def of_bits(bits, inputs, later):
+    """Those of the inputs that are later, or those that are known."""
+    return tuple(one for k, one in enumerate(inputs) if (bits >> k & 1) == (1 if later else 0))
+
+
+def all_bits(one):
+    return (1 << len(one[1])) - 1
+
+
+def all_params(program):
+    return tuple((one[0], param) for one in program for param in one[1])

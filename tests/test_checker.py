@@ -3,32 +3,10 @@
 from foreknown.checker import broken
 from foreknown.partings import best
 from foreknown.shapes import aims_of, function_by, lines_of, steps_of
-from helping import Case, EVERY, by_chance, later_in, loose_parting, many_functions, needed, pairs_of, program_of
+from helping import (Case, EVERY, MIXED, by_chance, later_in, loose_parting, many_functions, needed, pairs_of,
+                     program_of)
 
-PROGRAM = program_of("""
-    fun main a b
-    x = add a 1
-    y = call f x b
-    if y
-    z = add x y
-    go main z b
-    else
-    w = mul x x
-    v = call g w
-    go f v w
-    end
-    fun f p q
-    r = add p q
-    give r
-    fun g n
-    if n
-    m = down n
-    go g m
-    else
-    give n
-    end""")
-
-# The best parting of it with all bits of the main function.
+# The best parting of MIXED with all bits of the main function.
 ALL = (
     ("main", 3, ("x", "y", "z", "w", "v"), (3, 3, 1, 3)),
     ("f", 3, ("r",), ()),
@@ -86,12 +64,12 @@ class CheckerCase(Case):
 
 class LetByTest(CheckerCase):
     def test_best_partings(self):
-        self.assert_same(best(PROGRAM, 3, ()), ALL)
+        self.assert_same(best(MIXED, 3, ()), ALL)
         for bits in range(4):
-            self.let_by(PROGRAM, best(PROGRAM, bits, ()))
-            for pair in pairs_of(PROGRAM):
-                self.let_by(PROGRAM, best(PROGRAM, bits, (pair,)))
-            self.let_by(PROGRAM, best(PROGRAM, bits, pairs_of(PROGRAM)))
+            self.let_by(MIXED, best(MIXED, bits, ()))
+            for pair in pairs_of(MIXED):
+                self.let_by(MIXED, best(MIXED, bits, (pair,)))
+            self.let_by(MIXED, best(MIXED, bits, pairs_of(MIXED)))
         for bits in range(64):
             self.let_by(EVERY, best(EVERY, bits, ()))
         self.let_by(many_functions(200), best(many_functions(200), 1, ()))
@@ -110,8 +88,8 @@ class LetByTest(CheckerCase):
             self.let_by(program, (("main", 1, (), (goal,)), ("f", goal, (), ())))
 
     def test_forms_that_none_aims_at_and_forms_in_any_order(self):
-        self.let_by(PROGRAM, (ALL[0], ALL[2], ALL[1]))
-        self.let_by(PROGRAM, ALL + (("f", 0, (), ()), ("g", 0, (), (1,)), ("main", 0, ("x", "y", "z", "w", "v"),
+        self.let_by(MIXED, (ALL[0], ALL[2], ALL[1]))
+        self.let_by(MIXED, ALL + (("f", 0, (), ()), ("g", 0, (), (1,)), ("main", 0, ("x", "y", "z", "w", "v"),
                                                                            (3, 3, 1, 3))))
 
     def test_by_chance(self):
@@ -189,9 +167,9 @@ class RowsTest(CheckerCase):
 
 class FirstRowTest(CheckerCase):
     def test_of_several_forms_the_first_one_in_the_parting_s_order(self):
-        self.breaks(("let", "f", 3, "r"), PROGRAM, (ALL[0], ("f", 3, (), ()), ("g", 1, (), (1,))))
-        self.breaks(("let", "g", 1, "m"), PROGRAM, (ALL[0], ("g", 1, (), (1,)), ("f", 3, (), ())))
-        self.breaks(("let", "main", 3, "x"), PROGRAM, (("main", 3, (), (0, 0, 0, 0)), ("g", 1, (), (1,))))
+        self.breaks(("let", "f", 3, "r"), MIXED, (ALL[0], ("f", 3, (), ()), ("g", 1, (), (1,))))
+        self.breaks(("let", "g", 1, "m"), MIXED, (ALL[0], ("g", 1, (), (1,)), ("f", 3, (), ())))
+        self.breaks(("let", "main", 3, "x"), MIXED, (("main", 3, (), (0, 0, 0, 0)), ("g", 1, (), (1,))))
 
     def test_of_several_lines_the_first_one(self):
         program = program_of("""
@@ -268,7 +246,7 @@ class TakenOutTest(CheckerCase):
 
     def test_each_single_name_and_each_single_bit(self):
         for bits in range(4):
-            self.taken_out(PROGRAM, bits)
+            self.taken_out(MIXED, bits)
         for bits in (0, 1, 5, 33, 63):
             self.taken_out(EVERY, bits)
 
@@ -313,10 +291,10 @@ class NothingKeptTest(CheckerCase):
 
     def test_nothing_is_changed(self):
         records = program_of("fun main a\nb = set {a:1,b:2} 'c a\ngo main b")
-        self.assert_unchanged(broken, PROGRAM, ALL)
-        self.assert_unchanged(broken, PROGRAM, self.BROKEN)
+        self.assert_unchanged(broken, MIXED, ALL)
+        self.assert_unchanged(broken, MIXED, self.BROKEN)
         self.assert_unchanged(broken, records, best(records, 1, ()))
 
     def test_asked_again(self):
-        self.assert_steady(broken, [(PROGRAM, ALL), (PROGRAM, self.BROKEN), (PROGRAM, ALL[:2]), (PROGRAM, ALL[:1]),
-                                    (PROGRAM, best(PROGRAM, 0, ())), (PROGRAM, best(PROGRAM, 1, ())[:3])])
+        self.assert_steady(broken, [(MIXED, ALL), (MIXED, self.BROKEN), (MIXED, ALL[:2]), (MIXED, ALL[:1]),
+                                    (MIXED, best(MIXED, 0, ())), (MIXED, best(MIXED, 1, ())[:3])])

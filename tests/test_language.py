@@ -136,6 +136,18 @@ class LanguageTest(Case):
             if isinstance(node, ast.Name):
                 self.assertFalse(node.id.startswith("_"), place)
 
+    def test_nothing_local_is_called_like_an_import_or_a_class(self):
+        for path, _, tree in self.files():
+            taken = {node.name for node in tree.body if isinstance(node, ast.ClassDef)}
+            for node in ast.walk(tree):
+                if isinstance(node, ast.ImportFrom):
+                    taken |= {alias.asname or alias.name for alias in node.names}
+            for node in ast.walk(tree):
+                if isinstance(node, ast.arg):
+                    self.assertNotIn(node.arg, taken, path.name)
+                if isinstance(node, ast.Name) and isinstance(node.ctx, ast.Store):
+                    self.assertNotIn(node.id, taken, path.name)
+
     def test_methods_are_own_or_allowed_ones(self):
         own = set()
         given = set()

@@ -2,35 +2,8 @@
 
 from foreknown.partings import best, held_bits, need
 from foreknown.shapes import aims_of, function_by, lines_of, steps_of
-from helping import (Case, EVERY, by_chance, function, give, go, ifs_within, later_in, long_function, loose_parting,
-                     many_functions, needed, of, pairs_of, parting_held, program_of, value)
-
-# Each kind of line, ifs, goals back at the main function, and a function that
-# none aims at.
-MIXED = program_of("""
-    fun main a b
-    x = add a 1
-    y = call f x b
-    if y
-    z = add x y
-    go main z b
-    else
-    w = mul x x
-    v = call g w
-    go f v w
-    end
-    fun idle a
-    go idle a
-    fun f p q
-    r = add p q
-    give r
-    fun g n
-    if n
-    m = down n
-    go g m
-    else
-    give n
-    end""")
+from helping import (Case, EVERY, MIXED, by_chance, function, give, go, ifs_within, later_in, long_function,
+                     loose_parting, many_functions, needed, of, pairs_of, parting_held, program_of, value)
 
 NOTHING_LATER = (
     ("main", 0, ("y", "z", "v"), (0, 1, 0, 1)),

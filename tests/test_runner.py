@@ -4,7 +4,7 @@ from foreknown.errors import Fault
 from foreknown.ops import op_of
 from foreknown.runner import run
 from foreknown.shapes import function_by
-from helping import (BOUND, Case, WORDS, block, by_chance, call, fail, function, give, go, let, many_functions, of,
+from helping import (BOUND, Case, WORDS, block, by_chance, call, fail, function, give, let, many_functions, of,
                      program_of, value, when)
 
 MOST = 100000

@@ -1,7 +1,7 @@
 """[3] what a value is and how many parts it has; [4] its weight."""
 
 from foreknown.values import is_value, kind_of, parts, weight
-from helping import BOUND, Case, in_list, in_record, in_row, letters, nested
+from helping import BOUND, Case, in_list, in_record, in_row, letters, nested, pieces
 
 NO_VALUES = (True, False, None, [], [1], ["a"], [()], "", "A", BOUND, -BOUND, {1: 2}, {"": 1}, {"a": None})
 
@@ -12,25 +12,6 @@ def wide_row(count):
 
 def wide_record(count):
     return {word: 1 for word in letters(count)}
-
-
-def pieces(value):
-    """All pieces of a value, unlike ones only, straight from [4]."""
-    found = []
-    pending = [value]
-    while pending:
-        piece = pending.pop()
-        if piece in found:
-            continue
-        found.append(piece)
-        if isinstance(piece, int) and piece >= 1:
-            pending.append(piece - 1)
-        elif isinstance(piece, tuple) and piece:
-            pending.append(piece[1:])
-            pending.extend(piece)
-        elif isinstance(piece, dict):
-            pending.extend(piece.values())
-    return found
 
 
 class IsValueTest(Case):
