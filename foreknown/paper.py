@@ -1,6 +1,7 @@
 """Paper: whether making ends, how many keys it meets at most, and what to hold so that it does."""
 
 from foreknown.falling import wild
+from foreknown.loops import in_loops, loop_from
 from foreknown.partings import aimed_pairs, best, known_params, marked
 from foreknown.shapes import functions_by_name, values_of
 from foreknown.values import weight
@@ -16,45 +17,14 @@ def called_pairs(program, parting):
     return called
 
 
-# By each pair that can be come to from this one the pair ahead of it, on a
-# shortest way.
-def ways_from(pair, called):
-    before = {}
-    waiting = [pair]
-    place = 0
-    while place < len(waiting):
-        here = waiting[place]
-        for there in called[here]:
-            if there not in before:
-                before[there] = here
-                waiting.append(there)
-        place += 1
-    return before
-
-
-# The pairs along a shortest loop from this one back to it; None where it is in
-# none.
-def loop_from(pair, called):
-    before = ways_from(pair, called)
-    if pair not in before:
-        return None
-    loop = [pair, before[pair]]
-    while loop[-1] != pair:
-        loop.append(before[loop[-1]])
-    return tuple(reversed(loop))
-
-
 # The spots stand in the forms' and the params' order, so the first one of a
 # form in a loop is the one that is asked for.
 def paper(program, parting):
     called = called_pairs(program, parting)
-    loops = {}
+    looping = in_loops(called)
     for function, bits, param in wild(program, parting):
-        pair = (function, bits)
-        if pair not in loops:
-            loops[pair] = loop_from(pair, called)
-        if loops[pair] is not None:
-            return ("loop", param, loops[pair])
+        if (function, bits) in looping:
+            return ("loop", param, loop_from((function, bits), called))
     return ("ends", None, ())
 
 

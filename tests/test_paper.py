@@ -5,7 +5,7 @@ from foreknown.paper import counts, paper, steady
 from foreknown.partings import best
 from foreknown.shapes import aims_of, function_by, lines_of, values_of
 from foreknown.values import weight
-from helping import (BOUND, Case, EVERY, POWER, block, by_chance, function, give, go, let, loose_parting,
+from helping import (BOUND, Case, EVERY, POWER, block, by_chance, call, function, give, go, let, loose_parting,
                      many_functions, of, pairs_of, program_of, value, when)
 
 ENDS = ("ends", None, ())
@@ -227,6 +227,28 @@ class LoopTest(PaperCase):
         parting = best(program, 0, ())
         self.shows("a", ("f0", 0), program, parting)
         self.assertEqual(len(paper(program, parting)[2]), 201)
+
+    def test_many_forms_with_wild_params_in_no_loop(self):
+        """Functions with a form for nearly each bits, each calling the next ones."""
+        turned = ["abcdef"[k:] + "abcdef"[:k] for k in range(6)]
+        steps = [let(f"m{k}", "add", of(names[0]), value(1)) for k, names in enumerate(turned)]
+        callers = []
+        for k in range(60):
+            calls = [call(f"c{j}", f"f{k + 1}", of(f"m{j}"), *[of(name) for name in names[1:]])
+                     for j, names in enumerate(turned)]
+            more = call("more", f"f{k + 1}", of("c0"), *[of(name) for name in "bcdef"])
+            callers.append(function(f"f{k}", "a b c d e f", *steps, *calls, more, give(of("a"))))
+        last = function("f60", "a b c d e f", give(of("a")))
+        program = tuple(callers) + (last,)
+        parting = best(program, 1, ())
+        self.assertGreater(len(parting), 2000)
+        self.assert_same(paper(program, parting), ENDS)
+        program = tuple(callers) + (function("f60", "a b c d e f", go("f60", *[of(name) for name in "bcdefa"])),)
+        parting = best(program, 1, ())
+        told = paper(program, parting)
+        self.assert_same(told[:1], ("loop",))
+        self.assertEqual({pair[0] for pair in told[2]}, {"f60"})
+        self.check_forms(program, parting, told[2], told[2][0])
 
     def test_a_loop_that_no_form_comes_to(self):
         program = program_of("fun main a\ngive a\nfun f n\nm = add n 1\ngo f m")
