@@ -4,7 +4,9 @@ import copy
 import random
 import unittest
 
+from foreknown.checks import check
 from foreknown.reading import read
+from foreknown.runner import run
 from foreknown.shapes import function_by, lines_of, steps_of
 
 WORDS = ("add", "sub", "mul", "div", "rem", "less", "same", "down", "kind", "front",
@@ -156,6 +158,24 @@ WRITTEN = (
     (nested(59, in_row, ()), "[" * 60 + "]" * 60), (nested(59, in_row, -7), "[" * 59 + "-7" + "]" * 59),
     (nested(59, in_record, {}), "{a:" * 59 + "{}" + "}" * 59),
 )
+
+# Values that each op takes without a fault, and others of which it makes one.
+GOOD = {
+    "add": (2, 3), "sub": (2, 3), "mul": (2, 3), "div": (7, 2), "rem": (7, 2), "less": (1, 2), "same": (1, (1,)),
+    "down": (3,), "kind": ((),), "front": (1, (2,)), "head": ((1, 2),), "rest": ((1, 2),), "many": ((1, 2),),
+    "item": ((1, 2), 1), "put": ((1, 2), 1, "a"), "field": ({"a": 1}, "a"), "set": ({"a": 1}, "b", 2),
+}
+FAULTY = (
+    ("add", (BOUND - 1, 1), "wide"), ("sub", (1 - BOUND, 1), "wide"), ("mul", (BOUND - 1, 2), "wide"),
+    ("mul", (BOUND - 1, ()), "kind"), ("div", (1, 0), "nought"), ("div", ("a", 0), "kind"), ("rem", (1, 0), "nought"),
+    ("less", ("a", 1), "kind"), ("down", (0,), "low"), ("down", (-3,), "low"), ("front", (1, 2), "kind"),
+    ("front", (1, (1,) * 59), "large"), ("head", ((),), "empty"), ("rest", ((),), "empty"), ("many", (1,), "kind"),
+    ("item", ((1, 2), 2), "place"), ("put", ((1, 2), -1, "a"), "place"), ("put", ((1,) * 59, 0, (1,)), "large"),
+    ("field", ({}, "a"), "field"), ("set", ({}, 1, 2), "kind"), ("set", ({}, "a", (1,) * 59), "large"),
+)
+
+# Some values of each kind.
+SOME = (0, 1, -1, 7, BOUND - 1, "a", "row", (), (3,), (1, "a", ()), {}, {"a": 1}, {"b": (2, 3), "a": "w"})
 
 # Every step and every end, ifs within one another, and names that are words of
 # the writing themselves; beneath it the text that it is written as.
@@ -371,6 +391,22 @@ class Case(unittest.TestCase):
         outcome(function, arguments)
         self.assertEqual(repr(arguments), before)
 
+    def assert_tells_as(self, after, program, inputs, budget=400):
+        """[26] that it tells what the program tells, in as many steps or fewer; tells whether
+        that one told something."""
+        told = run(program, inputs, budget)
+        if told[0] != "out":
+            again = run(after, inputs, told[2])
+            self.assert_same(again[:2], told[:2], (program, inputs))
+            self.assertLessEqual(again[2], told[2])
+        return told[0] != "out"
+
+    def assert_all_as(self, after, program, budget=400):
+        """The same on inputs of all kinds; the program that comes is sound."""
+        self.assertIsNone(check(after))
+        for inputs in inputs_of_all_kinds(program):
+            self.assert_tells_as(after, program, inputs, budget)
+
     def assert_steady(self, function, asked):
         """That each asking is told the same again, behind all the others too,
         and that what was told first is not changed by the later askings."""
@@ -399,8 +435,10 @@ class Chance:
     some lines; calls and goes mostly aim at later functions, so that they end.
     """
 
-    def __init__(self, seed):
+    def __init__(self, seed, names=80):
+        """In so many of a hundred atoms a fitting name stands, where there is one."""
         self.random = random.Random(seed)
+        self.names = names
 
     def likely(self, hundredths):
         return self.random.randrange(100) < hundredths
@@ -422,7 +460,7 @@ class Chance:
         fitting = [name for name, of_kind in bound if kind in ("x", of_kind)]
         if self.likely(3):
             fitting = [name for name, _ in bound]
-        if fitting and self.likely(80):
+        if fitting and self.likely(self.names):
             return of(self.random.choice(fitting))
         return value(self.value_of(kind))
 
@@ -494,11 +532,20 @@ class Chance:
         return self.random.randrange(1 << len(function[1]))
 
 
-def by_chance(count, first_seed=0):
+def by_chance(count, first_seed=0, names=80, most_functions=5):
     """So many times a Chance with a sound program of it."""
     for seed in range(first_seed, first_seed + count):
-        chance = Chance(seed)
-        yield chance, chance.program()
+        chance = Chance(seed, names)
+        yield chance, chance.program(most_functions)
+
+
+def inputs_of_all_kinds(program):
+    """Tuples of inputs for the main function, in which each of SOME stands at each param."""
+    count = len(program[0][1])
+    if count == 0:
+        return [()]
+    return [tuple(SOME[(start + k * turn) % len(SOME)] for k in range(count))
+            for start in range(len(SOME)) for turn in (0, 1, 3)]
 
 
 def is_named(atom, names):
@@ -575,3 +622,84 @@ def all_bits(one):
 
 def all_params(program):
     return tuple((one[0], param) for one in program for param in one[1])
+
+
+def atoms_in(line):
+    if line[0] in ("let", "call"):
+        return line[3]
+    if line[0] == "go":
+        return line[2]
+    return () if line[0] == "fail" else (line[1],)
+
+
+def lines_and_outer(body, outer=0):
+    """Each line of the block, with how many ifs it lies in."""
+    yield from ((step, outer) for step in body[0])
+    end = body[1]
+    yield end, outer
+    if end[0] == "if":
+        yield from lines_and_outer(end[2], outer + 1)
+        yield from lines_and_outer(end[3], outer + 1)
+
+
+def aimed_in(body):
+    """The names of the functions called and gone to, in the lines' order."""
+    return [line[-2] for line, _ in lines_and_outer(body) if line[0] in ("call", "go")]
+
+
+def met_in(program):
+    """The functions' names as they are first met, by the words of [25]."""
+    met = [program[0][0]]
+    for name in met:
+        for aimed in aimed_in(function_by(program, name)[2]):
+            if aimed not in met:
+                met.append(aimed)
+    return met
+
+
+def ifs_in(body):
+    return max((outer + 1 for line, outer in lines_and_outer(body) if line[0] == "if"), default=0)
+
+
+class Doable:
+    """The words of [25] once more: which of the six things could be done."""
+
+    def __init__(self, program):
+        self.main = program[0][0]
+        self.bodies = {name: body for name, _, body in program}
+        self.aims = [aimed for one in program for aimed in aimed_in(one[2])]
+        met = met_in(program)
+        self.found = [("drop", name) for name in self.bodies if name not in met]
+        for name, body in self.bodies.items():
+            read_names = {atom[1] for line, _ in lines_and_outer(body) for atom in atoms_in(line) if atom[0] == "of"}
+            for line, outer in lines_and_outer(body):
+                self.look_at(name, line, outer, read_names)
+
+    def gives_a_value(self, name):
+        steps, end = self.bodies[name]
+        return steps == () and end[0] == "give" and end[1][0] == "is"
+
+    def look_at(self, name, line, outer, read_names):
+        if line[0] in ("call", "go") and self.gives_a_value(line[-2]):
+            self.found.append(("answer", name, line))
+        if line[0] == "let" and all(atom[0] == "is" for atom in line[3]):
+            self.found.append(("let", name, line))
+        if line[0] == "let" and line[2] in ("same", "kind") and line[1] not in read_names:
+            self.found.append(("idle", name, line))
+        if line[0] == "if" and line[1][0] == "is":
+            self.found.append(("if", name, line))
+        if line[0] == "go" and line[1] not in (self.main, name) and self.aims.count(line[1]) == 1:
+            here, there = self.bodies[name], self.bodies[line[1]]
+            lines = len(list(lines_and_outer(here))) - 1 + len(list(lines_and_outer(there)))
+            if lines <= 60 and max(ifs_in(here), outer + ifs_in(there)) <= 8:
+                self.found.append(("join", name, line))
+
+
+def can_be_done(program):
+    return Doable(program).found
+
+
+def is_put_in_order(program):
+    """That its functions stand and are named as [25] tells at last."""
+    return [one[0] for one in program] == met_in(program) == [f"q{k}" for k in range(len(program))] and all(
+        names_of(one) == tuple(f"v{k}" for k in range(len(names_of(one)))) for one in program)

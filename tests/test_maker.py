@@ -6,24 +6,11 @@ from foreknown.maker import make
 from foreknown.ops import op_of
 from foreknown.paper import paper, steady
 from foreknown.partings import best
-from helping import (BOUND, Case, EVERY, MACHINE, POWER, SUMS, WORDS, all_params, function, give, let, long_function,
-                     many_functions, of, of_bits, program_of, value)
+from helping import (BOUND, Case, EVERY, FAULTY, GOOD, MACHINE, POWER, SUMS, WORDS, all_params, function, give, let,
+                     long_function, many_functions, of, of_bits, program_of, value)
 
 TOP = BOUND - 1
 
-# Values that each op takes without a fault, and others of which it makes one.
-GOOD = {
-    "add": (2, 3), "sub": (2, 3), "mul": (2, 3), "div": (7, 2), "rem": (7, 2), "less": (1, 2), "same": (1, (1,)),
-    "down": (3,), "kind": ((),), "front": (1, (2,)), "head": ((1, 2),), "rest": ((1, 2),), "many": ((1, 2),),
-    "item": ((1, 2), 1), "put": ((1, 2), 1, "a"), "field": ({"a": 1}, "a"), "set": ({"a": 1}, "b", 2),
-}
-FAULTY = (
-    ("add", (TOP, 1), "wide"), ("sub", (-TOP, 1), "wide"), ("mul", (TOP, 2), "wide"), ("div", (1, 0), "nought"),
-    ("rem", (1, 0), "nought"), ("less", ("a", 1), "kind"), ("down", (0,), "low"), ("front", (1, 2), "kind"),
-    ("front", (1, (1,) * 59), "large"), ("head", ((),), "empty"), ("rest", ((),), "empty"), ("many", (1,), "kind"),
-    ("item", ((1, 2), 2), "place"), ("put", ((1, 2), -1, "a"), "place"), ("field", ({}, "a"), "field"),
-    ("set", ({}, 1, 2), "kind"),
-)
 
 class MakerCase(Case):
     def makes(self, text, keys, program, parting, known):
