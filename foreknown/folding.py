@@ -3,6 +3,7 @@
 from foreknown.errors import Fault
 from foreknown.loops import turned_round
 from foreknown.ops import chooses_first, op_of
+from foreknown.partings import marked
 from foreknown.renaming import aimed_names, met_names, stead_of, steads_of
 from foreknown.shapes import atoms_of
 
@@ -107,21 +108,23 @@ def folded(function, answers):
     return (function[0], function[1], swept_block(block, {}))
 
 
-def answers_in(functions):
+# The answers of all functions but those with these names.
+def answers_beside(functions, names):
+    marks = marked(names)
     answers = {}
     for name in functions:
         answer = answer_of(functions[name])
-        if answer is not None:
+        if answer is not None and name not in marks:
             answers[name] = answer
     return answers
 
 
-# Puts folded functions in the stead of those with these names, and of those at
-# which new answers come: so nothing is left to be folded, if nothing was in the
-# functions not named.
+# Puts folded functions in the stead of those with these names, and of those
+# that aim at one of them that gives a value at once: so nothing is left to be
+# folded, if nothing was but in these and through these.
 def fold_all(functions, names):
     callers = turned_round(aimed_names(functions))
-    answers = answers_in(functions)
+    answers = answers_beside(functions, names)
     while len(names) > 0:
         again = {}
         for name in names:

@@ -703,3 +703,62 @@ def is_put_in_order(program):
     """That its functions stand and are named as [25] tells at last."""
     return [one[0] for one in program] == met_in(program) == [f"q{k}" for k in range(len(program))] and all(
         names_of(one) == tuple(f"v{k}" for k in range(len(names_of(one)))) for one in program)
+
+
+def command(word, at, other):
+    """A command of a score; other is its number, its other jar or its body."""
+    return {"do": word, "at": at, {"set": "n", "when": "body", "loop": "body"}.get(word, "from"): other}
+
+
+def parts_in(thing):
+    """How many parts it has, by [3]."""
+    held = thing.values() if isinstance(thing, dict) else thing if isinstance(thing, tuple) else ()
+    return 1 + sum(parts_in(part) for part in held)
+
+
+class ScoreChance:
+    """Scores and jars by chance: of one seed the same ones each time."""
+
+    def __init__(self, seed):
+        self.random = random.Random(seed)
+        self.many = self.random.choice((1, 2, 3, 3, 4, 6, 20))
+
+    def jars(self):
+        numbers = (0, 0, 1, 1, 2, 3, 5, -1, 40, 10 ** 9, BOUND - 1, 1 - BOUND)
+        return tuple(self.random.choice(numbers) for _ in range(self.many))
+
+    def jar(self):
+        """Seldom one that there isn't."""
+        if self.random.randrange(60) == 0:
+            return self.random.choice((-1, self.many, -BOUND + 1, BOUND - 1))
+        return self.random.randrange(self.many)
+
+    def score(self, commands=None):
+        """A score of at most so many commands, bodies and all; loops mostly come to an end."""
+        left = self.random.randrange(15) if commands is None else commands
+        made = []
+        while left > 0:
+            word = self.random.choice(("set", "add", "sub", "mul", "when", "loop"))
+            inner = self.random.randrange(left) if word in ("when", "loop") else 0
+            made.append(self.command(word, inner))
+            left -= 1 + inner
+        return tuple(made)
+
+    def command(self, word, inner):
+        at = self.jar()
+        if word == "set":
+            return command(word, at, self.random.choice((0, 1, 2, 3, -4, 10 ** 9, BOUND - 1)))
+        if word not in ("when", "loop"):
+            return command(word, at, self.jar())
+        body = self.score(inner)
+        if word == "loop" and body and self.random.randrange(8):
+            ending = self.random.choice((command("set", at, 0), command("sub", at, at), command("mul", at, self.jar())))
+            body = body[:-1] + (ending,)
+        return command(word, at, body)
+
+
+def scores_by_chance(count, first_seed):
+    """So many times a ScoreChance with a score of it, which has at most 60 parts."""
+    for seed in range(first_seed, first_seed + count):
+        chance = ScoreChance(seed)
+        yield chance, chance.score()

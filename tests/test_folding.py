@@ -485,6 +485,11 @@ class AnswersTest(FoldingCase):
             fun g a
             z = add 1 1
             give z"""))
+        # Those that call it are folded as well where it gave a value all along.
+        functions = functions_by_name(program[:1] + program_of("fun f\ngive 2") + program[2:])
+        fold_all(functions, ["f"])
+        self.assert_same(functions["main"], program_of("fun main a\ngo g 2\nfun g a\ngive a")[0])
+        self.assert_same(functions["g"], program[2])
         self.assert_same(folded(program[0], {}), program[0])
         self.assert_same(folded(program[0], {"g": value(7)}), program_of("""
             fun main a
